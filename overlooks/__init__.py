@@ -1,0 +1,1 @@
+"""Overlooks: people in a row who change places over the heads of shorter people."""
