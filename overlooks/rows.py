@@ -19,6 +19,12 @@ def is_row(thing):
     return len(set(thing)) == len(thing)
 
 
+def check_person(row, height):
+    """Raise NoPerson if there is no person of that height."""
+    if height not in row:
+        raise NoPerson(height)
+
+
 def ranks(row):
     """The row in which each height is replaced by its rank, from 1."""
     rank_of = {height: rank for rank, height in enumerate(sorted(row), start=1)}
@@ -41,6 +47,5 @@ def with_person(row, place, height):
 
 def without(row, height):
     """The row without the person of that height."""
-    if height not in row:
-        raise NoPerson(height)
+    check_person(row, height)
     return tuple([other for other in row if other != height])

@@ -23,6 +23,12 @@ BARRED = re.compile(
     r"|dataclass|overload|contextmanager"
 )
 FUNCTIONS = (ast.FunctionDef, ast.AsyncFunctionDef)
+# L25, as far as the program needs it.
+METHODS = set(
+    "append clear copy count endswith extend find get index insert isalnum isalpha isascii isdigit"
+    " items join keys pop remove replace reverse setdefault split splitlines startswith strip"
+    " update values".split()
+)
 
 
 def imported_names(path):
@@ -46,8 +52,12 @@ def bound_names(tree):
             yield node.arg
         elif isinstance(node, ast.Name) and isinstance(node.ctx, ast.Store):
             yield node.id
-        elif isinstance(node, ast.Attribute):
-            yield node.attr
+        elif isinstance(node, ast.ExceptHandler) and node.name:
+            yield node.name
+
+
+def attribute_names(tree):
+    return [node.attr for node in ast.walk(tree) if isinstance(node, ast.Attribute)]
 
 
 class Language(unittest.TestCase):
@@ -106,7 +116,7 @@ class Language(unittest.TestCase):
     def test_names(self):
         allowed = re.compile(r"^([A-Za-z][A-Za-z0-9_]*|__[a-z]+__)$")
         for path, _, tree in self.each_file():
-            for name in bound_names(tree):
+            for name in (*bound_names(tree), *attribute_names(tree)):
                 self.assertRegex(name, allowed, path.name)
 
     def test_builtins(self):
@@ -115,6 +125,43 @@ class Language(unittest.TestCase):
                 if isinstance(node, ast.Name) and hasattr(builtins, node.id):
                     self.assertIn(node.id, BUILTINS, path.name)
                     self.assertIsInstance(node.ctx, ast.Load, path.name)
+
+    def test_no_local_name_hides_an_import_or_a_class_or_a_builtin(self):
+        for path, _, tree in self.each_file():
+            hidden = {alias.name for node in imported_names(path) for alias in node.names}
+            hidden |= {node.name for node in tree.body if isinstance(node, ast.ClassDef)}
+            for node in ast.walk(tree):
+                if isinstance(node, FUNCTIONS):
+                    bound = {name for part in (node.args, *node.body) for name in bound_names(part)}
+                    self.assertFalse(bound & hidden, path.name)
+                    self.assertFalse(bound & set(dir(builtins)), path.name)
+
+    def test_module_level_names_are_bound_once(self):
+        for path, _, _ in self.each_file():
+            names = [alias.name for node in imported_names(path) for alias in node.names]
+            names += defined_names(path)
+            self.assertEqual(len(names), len(set(names)), path.name)
+
+    def test_called_methods(self):
+        for path, _, tree in self.each_file():
+            own = {node.name for node in ast.walk(tree) if isinstance(node, FUNCTIONS)}
+            for node in ast.walk(tree):
+                if isinstance(node, ast.Call) and isinstance(node.func, ast.Attribute):
+                    self.assertIn(node.func.attr, METHODS | own, path.name)
+
+    def test_signs_and_expressions(self):
+        # With a class that has __eq__, generator expressions are barred from most places.
+        barred = (ast.Div, ast.MatMult, ast.GeneratorExp, ast.Global, ast.Await, ast.AsyncFor)
+        for path, _, tree in self.each_file():
+            for node in ast.walk(tree):
+                self.assertNotIsInstance(node, barred, path.name)
+                if isinstance(node, ast.Constant):
+                    self.assertNotIsInstance(node.value, (float, complex), path.name)
+                if isinstance(node, ast.Compare):
+                    for sign, right in zip(node.ops, node.comparators):
+                        if isinstance(sign, (ast.Is, ast.IsNot)):
+                            self.assertIsInstance(right, ast.Constant, path.name)
+                            self.assertIn(right.value, (None, True, False), path.name)
 
 
 if __name__ == "__main__":

@@ -1,13 +1,12 @@
 """Rows, promise [4], with the general rules [2] and [3]."""
 
-import copy
 import itertools
 import unittest
 
 from overlooks import errors
 from overlooks.rows import is_row, mirrored, ranks, with_person, without
+from tests.helpers import HUGE, Cases, small_rows
 
-HUGE = 10 ** 6000
 HEIGHTS = (1, 2, 3, 10 ** 9, 10 ** 9 + 1, HUGE)
 NOT_HEIGHTS = (
     True, False, None, 0, -1, -HUGE, "", "1", "row",
@@ -27,27 +26,11 @@ ROWS = (
 )
 
 
-def small_rows():
-    for many in range(5):
-        yield from itertools.permutations(range(1, many + 1))
-        yield from itertools.permutations((40, 7, 10 ** 9, 300)[:many])
-
-
 def all_test_rows():
     yield from ROWS
     yield from small_rows()
-
-
-class Cases(unittest.TestCase):
-    def assert_same(self, value, wanted):
-        """Equal, and of the same kinds: neither a list for a tuple nor True for 1."""
-        self.assertEqual(repr(value), repr(wanted))
-
-    def assert_raises(self, made, attributes, function, *args, **named):
-        with self.assertRaises(made) as caught:
-            function(*args, **named)
-        self.assertIs(type(caught.exception), made)
-        self.assertEqual(vars(caught.exception), attributes)
+    for many in range(5):
+        yield from itertools.permutations((40, 7, 10 ** 9, 300)[:many])
 
 
 class Examples(Cases):
@@ -64,15 +47,14 @@ class Examples(Cases):
         )
 
     def test_no_place(self):
-        self.assert_raises(errors.NoPlace, {"place": 3}, with_person, (70, 10), 3, 40)
+        self.assert_raises(
+            errors.NoPlace, {"place": 3}, with_person, row=(70, 10), place=3, height=40
+        )
 
 
 class IsRow(Cases):
     def assert_judged(self, thing, wanted):
-        before = copy.deepcopy(thing)
-        self.assertIs(is_row(thing), wanted)
-        self.assertIs(is_row(thing=thing), wanted)
-        self.assertEqual(thing, before)
+        self.assert_returns(wanted, is_row, thing=thing)
 
     def test_all_test_rows(self):
         for row in all_test_rows():
@@ -131,7 +113,7 @@ class Ranks(Cases):
     def test_every_rank_counts_the_people_who_are_not_taller(self):
         for row in all_test_rows():
             wanted = tuple(sum(other <= height for other in row) for height in row)
-            self.assert_same(ranks(row), wanted)
+            self.assert_returns(wanted, ranks, row=row)
 
     def test_by_hand(self):
         self.assert_same(ranks(()), ())
@@ -142,21 +124,12 @@ class Ranks(Cases):
         for row in all_test_rows():
             self.assert_same(ranks(ranks(row)), ranks(row))
 
-    def test_named_and_lists(self):
-        for row in all_test_rows():
-            given = list(row)
-            self.assert_same(ranks(given), ranks(row))
-            self.assert_same(ranks(row=given), ranks(row))
-            self.assert_same(given, list(row))
-
 
 class Mirrored(Cases):
     def test_every_place(self):
         for row in all_test_rows():
-            backwards = mirrored(row)
-            self.assertEqual(len(backwards), len(row))
-            for place, height in enumerate(row):
-                self.assertEqual(backwards[len(row) - 1 - place], height)
+            wanted = tuple(row[len(row) - 1 - place] for place in range(len(row)))
+            self.assert_returns(wanted, mirrored, row=row)
 
     def test_by_hand(self):
         self.assert_same(mirrored(()), ())
@@ -167,13 +140,6 @@ class Mirrored(Cases):
         for row in all_test_rows():
             self.assert_same(mirrored(mirrored(row)), row)
 
-    def test_named_and_lists(self):
-        for row in all_test_rows():
-            given = list(row)
-            self.assert_same(mirrored(given), mirrored(row))
-            self.assert_same(mirrored(row=given), mirrored(row))
-            self.assert_same(given, list(row))
-
 
 class WithPerson(Cases):
     def test_every_place(self):
@@ -181,7 +147,9 @@ class WithPerson(Cases):
             for place in range(len(row) + 1):
                 wanted = list(row)
                 wanted.insert(place, 10 ** 8)
-                self.assert_same(with_person(row, place, 10 ** 8), tuple(wanted))
+                self.assert_returns(
+                    tuple(wanted), with_person, row=row, place=place, height=10 ** 8
+                )
 
     def test_into_the_empty_row(self):
         self.assert_same(with_person((), 0, 1), (1,))
@@ -193,7 +161,8 @@ class WithPerson(Cases):
             for place in (-HUGE, -many - 1, -many, -2, -1, many + 1, many + 2, 10 ** 9, HUGE):
                 if not 0 <= place <= many:
                     self.assert_raises(
-                        errors.NoPlace, {"place": place}, with_person, row, place, 10 ** 8
+                        errors.NoPlace, {"place": place},
+                        with_person, row=row, place=place, height=10 ** 8,
                     )
 
     def test_people_who_are_there_already(self):
@@ -201,7 +170,8 @@ class WithPerson(Cases):
             for height in row:
                 for place in range(len(row) + 1):
                     self.assert_raises(
-                        errors.Known, {"height": height}, with_person, row, place, height
+                        errors.Known, {"height": height},
+                        with_person, row=row, place=place, height=height,
                     )
 
     def test_the_place_is_checked_first(self):
@@ -209,34 +179,25 @@ class WithPerson(Cases):
             for height in row:
                 for place in (-HUGE, -1, len(row) + 1, HUGE):
                     self.assert_raises(
-                        errors.NoPlace, {"place": place}, with_person, row, place, height
+                        errors.NoPlace, {"place": place},
+                        with_person, row=row, place=place, height=height,
                     )
-
-    def test_named_and_lists(self):
-        for row in all_test_rows():
-            given = list(row)
-            wanted = (10 ** 8,) + row
-            self.assert_same(with_person(given, 0, 10 ** 8), wanted)
-            self.assert_same(with_person(height=10 ** 8, place=0, row=given), wanted)
-            self.assert_raises(errors.NoPlace, {"place": -1}, with_person, given, -1, 10 ** 8)
-            for height in row:
-                self.assert_raises(
-                    errors.Known, {"height": height}, with_person, row=given, place=0, height=height
-                )
-            self.assert_same(given, list(row))
 
 
 class Without(Cases):
     def test_everybody(self):
         for row in all_test_rows():
             for place, height in enumerate(row):
-                self.assert_same(without(row, height), row[:place] + row[place + 1:])
+                wanted = row[:place] + row[place + 1:]
+                self.assert_returns(wanted, without, row=row, height=height)
 
     def test_people_who_are_not_there(self):
         for row in all_test_rows():
             for height in (-HUGE, -70, -1, 0, 1, 6, 20, 10 ** 9, 10 ** 9 + 1, HUGE):
                 if height not in row:
-                    self.assert_raises(errors.NoPerson, {"height": height}, without, row, height)
+                    self.assert_raises(
+                        errors.NoPerson, {"height": height}, without, row=row, height=height
+                    )
 
     def test_takes_with_person_back(self):
         for row in all_test_rows():
@@ -247,15 +208,6 @@ class Without(Cases):
         for row in all_test_rows():
             for place, height in enumerate(row):
                 self.assert_same(with_person(without(row, height), place, height), row)
-
-    def test_named_and_lists(self):
-        for row in all_test_rows():
-            given = list(row)
-            for height in row:
-                self.assert_same(without(given, height), without(row, height))
-                self.assert_same(without(height=height, row=given), without(row, height))
-            self.assert_raises(errors.NoPerson, {"height": 0}, without, given, 0)
-            self.assert_same(given, list(row))
 
 
 if __name__ == "__main__":

@@ -1,0 +1,180 @@
+"""What the tests of several modules share."""
+
+import copy
+import itertools
+import random
+import unittest
+
+HUGE = 10 ** 6000
+
+# The row of the document's examples.
+ROW = (3, 1, 2, 5, 4)
+
+# Values of all kinds that a parameter called thing may have, none of them a number from 0.
+ODD_ITEMS = (
+    True, False, None, -1, -HUGE, "", "0", "1", "row",
+    (), (0,), (1,), ((1,),), (0, 1), [], [0], [1], [[]], [(2, 3)],
+)
+
+
+def small_rows(most=4):
+    """Every row of the heights 1, 2, .. of at most so many people."""
+    for many in range(most + 1):
+        yield from itertools.permutations(range(1, many + 1))
+
+
+def large_rows():
+    """Rows of up to sixteen people, the heights up to 10 ** 9."""
+    yield tuple(range(1, 17))
+    yield tuple(range(16, 0, -1))
+    yield tuple(range(10 ** 9, 10 ** 9 - 16, -1))
+    yield (16, 1, 15, 2, 14, 3, 13, 4, 12, 5, 11, 6, 10, 7, 9, 8)
+    yield (16, 14, 12, 10, 8, 6, 4, 2, 1, 3, 5, 7, 9, 11, 13, 15)
+    yield (2, 1, 4, 3, 6, 5, 8, 7, 10, 9, 12, 11, 14, 13, 16, 15)
+    chosen = random.Random(4)
+    for many in range(17):
+        for _ in range(4):
+            yield tuple(chosen.sample(range(1, many + 1), many))
+            yield tuple(chosen.sample(range(1, 10 ** 9 + 1), many))
+
+
+def plain_sights(row):
+    """All sights, by a plain look at everybody between."""
+    return [
+        (i, j)
+        for i in range(len(row))
+        for j in range(i + 1, len(row))
+        if all(row[k] < row[i] and row[k] < row[j] for k in range(i + 1, j))
+    ]
+
+
+def plain_exchanges(row):
+    """The sights with somebody between."""
+    return [(i, j) for i, j in plain_sights(row) if j - i >= 2]
+
+
+def plain_exchanged(row, pair):
+    """The row in which the people at the two places stand at each other's."""
+    i, j = pair
+    return row[:i] + (row[j],) + row[i + 1:j] + (row[i],) + row[j + 1:]
+
+
+def plain_lot(row):
+    """The rows that exchanges reach, by a search."""
+    seen = {row}
+    waiting = [row]
+    while waiting:
+        reached = waiting.pop()
+        for pair in plain_exchanges(reached):
+            after = plain_exchanged(reached, pair)
+            if after not in seen:
+                seen.add(after)
+                waiting.append(after)
+    return seen
+
+
+def plain_lots(many):
+    """The lots of all rows of the heights 1 to many, each as a set."""
+    left = set(itertools.permutations(range(1, many + 1)))
+    while left:
+        lot = plain_lot(min(left))
+        yield lot
+        left -= lot
+
+
+def random_walk(row, many, seed):
+    """As many exchanges, one after the other; fewer if the row has none."""
+    chosen = random.Random(seed)
+    pairs = []
+    for _ in range(many):
+        possible = plain_exchanges(row)
+        if not possible:
+            break
+        pairs.append(chosen.choice(possible))
+        row = plain_exchanged(row, pairs[-1])
+    return pairs, row
+
+
+def wrapped_values():
+    """Lists and tuples around values of all kinds, up to six levels deep."""
+    for inner in (0, 1, True, None, "a", (), [], (0,), (0, 2), [0, 2], [(0, 2)]):
+        for depth in range(1, 5):
+            for wraps in itertools.product((0, 1, 2), repeat=depth):
+                thing = inner
+                for wrap in wraps:
+                    thing = ((thing,), [thing], (0, thing))[wrap]
+                yield thing
+
+
+def odd_values():
+    """Values of all kinds: numbers, True, False, None, strings, lists and tuples."""
+    yield from (0, 1, 2, 7, 10 ** 9, HUGE)
+    yield from ODD_ITEMS
+    yield from wrapped_values()
+
+
+def as_lists(value):
+    if isinstance(value, (list, tuple)):
+        return [as_lists(item) for item in value]
+    return value
+
+
+def as_tuples(value):
+    if isinstance(value, (list, tuple)):
+        return tuple(as_tuples(item) for item in value)
+    return value
+
+
+def spoil(value):
+    """Change a returned list, which belongs to the caller."""
+    if isinstance(value, list):
+        value.reverse()
+        value.append("spoilt")
+
+
+class Cases(unittest.TestCase):
+    def assert_same(self, value, wanted):
+        """Equal, and of the same kinds: neither a list for a tuple nor True for 1."""
+        self.assertIs(type(value), type(wanted))
+        if isinstance(wanted, (list, tuple)):
+            self.assertEqual(len(value), len(wanted))
+            for item, wanted_item in zip(value, wanted):
+                self.assert_same(item, wanted_item)
+        else:
+            self.assertEqual(value, wanted)
+
+    def calls(self, function, arguments):
+        """The call by position and by name, as given, with lists, and with tuples.
+
+        Afterwards no argument has changed.
+        """
+        for change in (copy.deepcopy, as_lists, as_tuples):
+            given = {
+                name: copy.deepcopy(value) if name == "thing" else change(value)
+                for name, value in arguments.items()
+            }
+            before = copy.deepcopy(given)
+            backwards = dict(reversed(given.items()))
+            yield lambda: function(*given.values())
+            yield lambda: function(**backwards)
+            for name in given:
+                self.assert_same(given[name], before[name])
+
+    def assert_returns(self, wanted, function, **arguments):
+        """However it is called, whatever is done to what an earlier call returned."""
+        for call in self.calls(function, arguments):
+            value = call()
+            self.assert_same(value, wanted)
+            spoil(value)
+            self.assert_same(call(), wanted)
+
+    def assert_raises(self, made, attributes, function, **arguments):
+        """However it is called; the error has exactly these attributes."""
+        for call in self.calls(function, arguments):
+            with self.assertRaises(made) as caught:
+                call()
+            self.assertIs(type(caught.exception), made)
+            stored = vars(caught.exception)
+            self.assertEqual(list(stored), list(attributes))
+            for name, value in attributes.items():
+                self.assert_same(stored[name], value)
