@@ -82,6 +82,53 @@ def plain_lots(many):
         left -= lot
 
 
+def plain_codes(row):
+    """The codes by their definition: an index in the rest row."""
+    found = []
+    for height in sorted(row):
+        rest_row = [other for other in row if other >= height]
+        found.append(rest_row.index(height))
+    return tuple(found)
+
+
+def united(sets):
+    """The sets of indices, those that share an index united, again and again."""
+    for one in sets:
+        for other in sets:
+            if one is not other and one & other:
+                rest = [kept for kept in sets if kept is not one and kept is not other]
+                return united(rest + [one | other])
+    return sets
+
+
+def plain_run_lists(row):
+    """The runs of all rest rows, made as the document describes it."""
+    lists = []
+    rest_row = list(row)
+    made = [{index} for index in range(len(row))]
+    for height in sorted(row):
+        lists.append(sorted((min(indices), max(indices)) for indices in made))
+        code = rest_row.index(height)
+        rest_row.remove(height)
+        after = []
+        for indices in made:
+            if code in indices:
+                grown = set(range(min(indices) - 1, max(indices) + 1))
+                after.append(grown & set(range(len(rest_row))))
+            else:
+                after.append({index - 1 if index > code else index for index in indices})
+        made = united(after)
+    return lists
+
+
+def plain_runs(row):
+    """The run of each person that contains their code, the shortest person first."""
+    found = []
+    for code, intervals in zip(plain_codes(row), plain_run_lists(row)):
+        found += [(first, last) for first, last in intervals if first <= code <= last]
+    return tuple(found)
+
+
 def random_walk(row, many, seed):
     """As many exchanges, one after the other; fewer if the row has none."""
     chosen = random.Random(seed)

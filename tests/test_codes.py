@@ -5,18 +5,9 @@ import unittest
 
 from overlooks.codes import codes, is_codes, row_with
 from tests.helpers import (
-    HUGE, ODD_ITEMS, ROW, Cases, large_rows, odd_values, plain_exchanged, plain_exchanges,
-    small_rows,
+    HUGE, ODD_ITEMS, ROW, Cases, large_rows, odd_values, plain_codes, plain_exchanged,
+    plain_exchanges, small_rows,
 )
-
-
-def plain_codes(row):
-    """The codes by their definition: an index in the rest row."""
-    found = []
-    for height in sorted(row):
-        rest_row = [other for other in row if other >= height]
-        found.append(rest_row.index(height))
-    return tuple(found)
 
 
 def all_codes(many):
