@@ -7,7 +7,7 @@ index of one person.
 """
 
 from overlooks.rows import check_person
-from overlooks.runs import runs
+from overlooks.runs import run_size, runs
 
 
 def chance_before(row, one, other):
@@ -20,7 +20,7 @@ def chance_before(row, one, other):
     span = span_of[shorter]
     # The shorter one comes to their code and moves everybody from there on back.
     before = sum([count * codes_up_to(span, index) for index, count in enumerate(counts)])
-    total = sum(counts) * span_size(span)
+    total = sum(counts) * run_size(span)
     return fraction(before if one == shorter else total - before, total)
 
 
@@ -72,15 +72,9 @@ def counts_after(counts, span):
     grown = [0] * (len(counts) + 1)
     for index, count in enumerate(counts):
         before = codes_up_to(span, index)
-        grown[index] += count * (span_size(span) - before)
+        grown[index] += count * (run_size(span) - before)
         grown[index + 1] += count * before
     return grown
-
-
-def span_size(span):
-    """How many indices the run has."""
-    first, last = span
-    return last - first + 1
 
 
 def codes_up_to(span, index):

@@ -13,6 +13,13 @@ def check_same_people(one, other):
         raise OtherPeople()
 
 
+def check_leads(one, other):
+    """Raise OtherPeople or Barred if the row one does not lead to the row other."""
+    barred = bar(one, other)
+    if barred is not None:
+        raise Barred(barred)
+
+
 def leads(one, other):
     """Whether the row one leads to the row other."""
     return bar(one, other) is None
@@ -39,9 +46,7 @@ def differences(one, other):
 
 def steps(one, other):
     """The sum of the differences of the codes, without signs."""
-    barred = bar(one, other)
-    if barred is not None:
-        raise Barred(barred)
+    check_leads(one, other)
     return sum([abs(here - there) for height, here, there in differences(one, other)])
 
 

@@ -4,6 +4,17 @@ from overlooks.codes import codes
 from overlooks.rows import check_person
 
 
+def first_intervals(many):
+    """The runs for the shortest of so many people."""
+    return [(index, index) for index in range(many)]
+
+
+def run_size(interval):
+    """How many indices the run has."""
+    first, last = interval
+    return last - first + 1
+
+
 def run_index(intervals, code):
     """The index of the run that contains the code, in the ascending list of runs."""
     return len([last for first, last in intervals if last < code])
@@ -24,7 +35,7 @@ def next_intervals(intervals, code):
 def run_lists(row):
     """For each person, the shortest first, the ascending list of all runs of their rest row."""
     lists = []
-    intervals = [(index, index) for index in range(len(row))]
+    intervals = first_intervals(len(row))
     for code in codes(row):
         lists.append(intervals)
         intervals = next_intervals(intervals, code)

@@ -16,6 +16,18 @@ ODD_ITEMS = (
     (), (0,), (1,), ((1,),), (0, 1), [], [0], [1], [[]], [(2, 3)],
 )
 
+# Rows of different people, some of them also of another number of people.
+OTHER_PEOPLE = (
+    ((), (1,)),
+    ((1,), ()),
+    ((1, 2), (1, 3)),
+    ((1, 2, 3), (1, 2)),
+    ((2, 1), (2, 1, 3)),
+    (ROW, (3, 1, 2, 5, 6)),
+    (ROW, (30, 10, 20, 50, 40)),
+    (tuple(range(1, 17)), tuple(range(2, 18))),
+)
+
 
 def small_rows(most=4):
     """Every row of the heights 1, 2, .. of at most so many people."""
@@ -75,11 +87,12 @@ def plain_lot(row):
 
 def plain_lots(many):
     """The lots of all rows of the heights 1 to many, each as a set."""
-    left = set(itertools.permutations(range(1, many + 1)))
-    while left:
-        lot = plain_lot(min(left))
-        yield lot
-        left -= lot
+    seen = set()
+    for row in itertools.permutations(range(1, many + 1)):
+        if row not in seen:
+            lot = plain_lot(row)
+            seen |= lot
+            yield lot
 
 
 def plain_codes(row):
@@ -127,6 +140,27 @@ def plain_runs(row):
     for code, intervals in zip(plain_codes(row), plain_run_lists(row)):
         found += [(first, last) for first, last in intervals if first <= code <= last]
     return tuple(found)
+
+
+def plain_bar(one, other):
+    """The shortest person whose run is different; None if there is none."""
+    for height, here, there in zip(sorted(one), plain_runs(one), plain_runs(other)):
+        if here != there:
+            return height
+    return None
+
+
+def plain_signature(row):
+    """The index of each person's run in the list of all runs of their rest row."""
+    return tuple(
+        intervals.index(interval)
+        for intervals, interval in zip(plain_run_lists(row), plain_runs(row))
+    )
+
+
+def as_heights(row, heights):
+    """The row with each rank replaced by one of the ascending heights."""
+    return tuple(heights[rank - 1] for rank in row)
 
 
 def random_walk(row, many, seed):

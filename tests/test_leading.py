@@ -6,34 +6,9 @@ import unittest
 from overlooks import errors
 from overlooks.leading import bar, differences, leads, shows_exchanges, steps
 from tests.helpers import (
-    HUGE, ODD_ITEMS, ROW, Cases, large_rows, odd_values, plain_codes, plain_exchanged,
-    plain_exchanges, plain_lots, plain_runs, random_walk,
+    HUGE, ODD_ITEMS, OTHER_PEOPLE, ROW, Cases, as_heights, large_rows, odd_values, plain_bar,
+    plain_codes, plain_exchanged, plain_exchanges, plain_lots, random_walk,
 )
-
-# Rows of different people, some of them also of another number of people.
-OTHER_PEOPLE = (
-    ((), (1,)),
-    ((1,), ()),
-    ((1, 2), (1, 3)),
-    ((1, 2, 3), (1, 2)),
-    ((2, 1), (2, 1, 3)),
-    (ROW, (3, 1, 2, 5, 6)),
-    (ROW, (30, 10, 20, 50, 40)),
-    (tuple(range(1, 17)), tuple(range(2, 18))),
-)
-
-
-def as_heights(row, heights):
-    """The row with each rank replaced by one of the ascending heights."""
-    return tuple(heights[rank - 1] for rank in row)
-
-
-def wanted_bar(one, other):
-    """The shortest person whose run is different; None if there is none."""
-    for height, here, there in zip(sorted(one), plain_runs(one), plain_runs(other)):
-        if here != there:
-            return height
-    return None
 
 
 def wanted_differences(one, other):
@@ -112,7 +87,7 @@ class TwoRows(Cases):
     def assert_pair(self, one, other, wanted):
         """All functions of two rows, the first of which leads to the other one if wanted."""
         self.assert_returns(wanted, leads, one=one, other=other)
-        barred = wanted_bar(one, other)
+        barred = plain_bar(one, other)
         self.assertEqual(barred is None, wanted)
         self.assert_returns(barred, bar, one=one, other=other)
         different = wanted_differences(one, other)
@@ -138,8 +113,8 @@ class TwoRows(Cases):
             _, reached = random_walk(row, 60, seed=7)
             self.assert_pair(row, reached, True)
             backwards = row[::-1]
-            self.assert_pair(row, backwards, wanted_bar(row, backwards) is None)
-            self.assert_pair(row, tuple(sorted(row)), wanted_bar(row, tuple(sorted(row))) is None)
+            self.assert_pair(row, backwards, plain_bar(row, backwards) is None)
+            self.assert_pair(row, tuple(sorted(row)), plain_bar(row, tuple(sorted(row))) is None)
 
 
 class Bar(Cases):
