@@ -176,6 +176,96 @@ def random_walk(row, many, seed):
     return pairs, row
 
 
+class Failed(Exception):
+    """What a PlainLine raises: the name of the error, and its value."""
+
+
+class PlainLine:
+    """A plain description of a Line: the rows at first and after each operation in effect."""
+
+    def __init__(self, row=()):
+        self.rows = [tuple(row)]
+        self.log = []
+
+    @property
+    def row(self):
+        return self.rows[-1]
+
+    def call(self, name, *values):
+        """What the operation returns; Failed if it raises an error."""
+        self.log += [("in", name), ("out", name)]
+        return getattr(self, name)(*values)
+
+    def exchange(self, pair):
+        if pair not in plain_exchanges(self.row):
+            raise Failed("Blocked", pair)
+        people = [self.row[place] for place in pair]
+        self.rows.append(plain_exchanged(self.row, pair))
+        return (min(people), 1 if people[0] < people[1] else -1)
+
+    def run(self, pairs):
+        row = self.row
+        for pair in pairs:
+            if pair not in plain_exchanges(row):
+                raise Failed("Blocked", pair)
+            row = plain_exchanged(row, pair)
+        self.rows.append(row)
+
+    def come(self, height, place):
+        if not 0 <= place <= len(self.row):
+            raise Failed("NoPlace", place)
+        if height in self.row:
+            raise Failed("Known", height)
+        if len(self.row) >= 16:
+            raise Failed("Full", 16)
+        self.rows.append(self.row[:place] + (height,) + self.row[place:])
+        return len(self.row)
+
+    def leave(self, height):
+        if height not in self.row:
+            raise Failed("NoPerson", height)
+        place = self.row.index(height)
+        self.rows.append(self.row[:place] + self.row[place + 1:])
+        return place
+
+    def turn(self):
+        self.rows.append(self.row[::-1])
+
+    def undo(self):
+        if len(self.rows) == 1:
+            return False
+        self.rows.pop()
+        return True
+
+
+def random_operation(chosen, row, huge=HUGE):
+    """The name of an operation and its values, often such that it fails."""
+    name = chosen.choice(("exchange", "exchange", "run", "come", "come", "leave", "turn", "undo"))
+    many = len(row)
+    if name == "exchange":
+        return name, random_pair(chosen, row, huge)
+    if name == "run":
+        pairs, _ = random_walk(row, chosen.randrange(6), seed=chosen.randrange(1000))
+        if chosen.random() < 0.3:
+            pairs.insert(chosen.randrange(len(pairs) + 1), random_pair(chosen, row, huge))
+        return name, pairs
+    if name == "come":
+        height = chosen.choice((*row, *chosen.sample(range(1, 10 ** 9 + 1), many + 3), 1, 2, 3, 4))
+        return name, height, chosen.choice((*range(-1, many + 2), huge, -huge, many, 0))
+    if name == "leave":
+        return name, chosen.choice((*row, 0, -1, 5, 10 ** 9, huge))
+    return (name,)
+
+
+def random_pair(chosen, row, huge):
+    """An exchange of the row, or any two numbers."""
+    possible = plain_exchanges(row)
+    if possible and chosen.random() < 0.7:
+        return chosen.choice(possible)
+    numbers = (*range(-2, len(row) + 2), huge, -huge)
+    return (chosen.choice(numbers), chosen.choice(numbers))
+
+
 def wrapped_values():
     """Lists and tuples around values of all kinds, up to six levels deep."""
     for inner in (0, 1, True, None, "a", (), [], (0,), (0, 2), [0, 2], [(0, 2)]):

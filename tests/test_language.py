@@ -23,11 +23,19 @@ BARRED = re.compile(
     r"|dataclass|overload|contextmanager"
 )
 FUNCTIONS = (ast.FunctionDef, ast.AsyncFunctionDef)
-# L25, as far as the program needs it.
+# The methods of builtin values, L25, without translate.
 METHODS = set(
-    "append clear copy count endswith extend find get index insert isalnum isalpha isascii isdigit"
-    " items join keys pop remove replace reverse setdefault split splitlines startswith strip"
-    " update values".split()
+    "append clear copy count endswith extend find get index insert isalnum isalpha isdigit islower"
+    " isspace isupper items join keys ljust lower lstrip partition pop remove replace reverse rfind"
+    " rjust rpartition rsplit rstrip setdefault split splitlines startswith strip update upper"
+    " values zfill bit_length isascii isdecimal isnumeric removeprefix removesuffix rindex".split()
+)
+# L5, as far as the program needs it.
+SPECIAL_METHODS = {"__init__", "__eq__", "__repr__", "__len__"}
+# L26: attributes may not be called like these.
+BARRED_ATTRIBUTES = set(
+    "items keys values pop update append clear extend insert remove reverse setdefault sort args"
+    " encode decode hex fromhex format".split()
 )
 
 
@@ -60,11 +68,34 @@ def attribute_names(tree):
     return [node.attr for node in ast.walk(tree) if isinstance(node, ast.Attribute)]
 
 
+def methods_of(made):
+    return [node for node in made.body if isinstance(node, FUNCTIONS)]
+
+
+def assigned_attributes(tree):
+    for node in ast.walk(tree):
+        if isinstance(node, ast.Attribute) and isinstance(node.ctx, ast.Store):
+            yield node.attr
+
+
+def is_iterated(value):
+    """Whether the value is one that L23 lets stand only where it is iterated."""
+    if not isinstance(value, ast.Call):
+        return False
+    if isinstance(value.func, ast.Name):
+        return value.func.id in ("zip", "enumerate", "reversed", "range")
+    return isinstance(value.func, ast.Attribute) and value.func.attr in ("items", "keys", "values")
+
+
 class Language(unittest.TestCase):
     def each_file(self):
         for path in FILES:
             text = path.read_text()
             yield path, text, ast.parse(text)
+
+    def each_class(self):
+        for _, _, tree in self.each_file():
+            yield from (node for node in tree.body if isinstance(node, ast.ClassDef))
 
     def test_the_folder_contains_plain_files_only(self):
         self.assertIn(PACKAGE / "__init__.py", FILES)
@@ -143,11 +174,58 @@ class Language(unittest.TestCase):
             self.assertEqual(len(names), len(set(names)), path.name)
 
     def test_called_methods(self):
+        own = {method.name for made in self.each_class() for method in methods_of(made)}
         for path, _, tree in self.each_file():
-            own = {node.name for node in ast.walk(tree) if isinstance(node, FUNCTIONS)}
             for node in ast.walk(tree):
                 if isinstance(node, ast.Call) and isinstance(node.func, ast.Attribute):
                     self.assertIn(node.func.attr, METHODS | own, path.name)
+
+    def test_methods_and_attributes_of_classes(self):
+        methods, attributes = set(), set()
+        for made in self.each_class():
+            names = [method.name for method in methods_of(made)]
+            self.assertEqual(len(names), len(set(names)), made.name)
+            for name in names:
+                self.assertTrue(name in SPECIAL_METHODS or not name.startswith("_"), name)
+                self.assertTrue(name == "count" or name not in METHODS, name)
+            methods |= set(names)
+            attributes |= set(assigned_attributes(made))
+        self.assertFalse(methods & attributes)
+        self.assertFalse(attributes & BARRED_ATTRIBUTES)
+        for path, _, tree in self.each_file():
+            self.assertLessEqual(set(assigned_attributes(tree)), attributes, path.name)
+            for name in attribute_names(tree):
+                self.assertIn(name, methods | attributes | METHODS, path.name)
+
+    def test_raised_and_caught_errors(self):
+        own = set(defined_names(PACKAGE / "errors.py"))
+        for path, _, tree in self.each_file():
+            for node in ast.walk(tree):
+                if isinstance(node, ast.Raise):
+                    self.assertIsInstance(node.exc, ast.Call, path.name)
+                    self.assertIn(node.exc.func.id, own, path.name)
+                if isinstance(node, ast.ExceptHandler):
+                    self.assertIn(node.type.id, own, path.name)
+
+    def test_special_methods_end_with_a_return(self):
+        for made in self.each_class():
+            for method in methods_of(made):
+                if method.name in SPECIAL_METHODS - {"__init__"}:
+                    self.assertIsInstance(method.body[-1], ast.Return, made.name)
+                if method.name == "__init__":
+                    inside = [type(node) for node in ast.walk(method)]
+                    self.assertNotIn(ast.Return, inside, made.name)
+
+    def test_views_and_ranges_are_iterated_at_once(self):
+        for path, _, tree in self.each_file():
+            for node in ast.walk(tree):
+                if isinstance(node, (ast.Assign, ast.AugAssign, ast.Return)):
+                    self.assertFalse(is_iterated(node.value), path.name)
+
+    def test_powers_are_not_computed(self):
+        for path, _, tree in self.each_file():
+            for node in ast.walk(tree):
+                self.assertNotIsInstance(node, ast.Pow, path.name)
 
     def test_signs_and_expressions(self):
         # With a class that has __eq__, generator expressions are barred from most places.

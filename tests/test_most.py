@@ -1,8 +1,8 @@
-"""The limits of promises [9] and [10]."""
+"""The limits of promises [9], [10] and [15]."""
 
 import unittest
 
-from overlooks.most import MOST, MOST_SEARCHED
+from overlooks.most import MOST, MOST_PEOPLE, MOST_SEARCHED
 
 
 class Limits(unittest.TestCase):
@@ -13,6 +13,10 @@ class Limits(unittest.TestCase):
     def test_most_searched(self):
         self.assertEqual(MOST_SEARCHED, 2000)
         self.assertIs(type(MOST_SEARCHED), int)
+
+    def test_most_people(self):
+        self.assertEqual(MOST_PEOPLE, 16)
+        self.assertIs(type(MOST_PEOPLE), int)
 
 
 if __name__ == "__main__":
